@@ -1,0 +1,1 @@
+"""Roundedsteps: what is so of rounded programs, for all inputs."""

@@ -1,0 +1,229 @@
+"""The form of the code: the interface, and those rules of the language that a plain look at the files can see."""
+
+import ast
+import builtins
+import importlib
+import inspect
+import os
+import unittest
+
+FOLDER = os.path.join(os.path.dirname(os.path.dirname(os.path.abspath(__file__))), 'roundedsteps')
+
+INTERFACE = {
+    'grids': {'Grid': 'base figures reach places'},
+    'rounding': {'rounded': 'grid top bottom way more', 'rest': 'grid top bottom way more',
+                 'is_tie': 'grid top bottom more', 'around': 'grid top bottom more', 'split_sum': 'grid one other'},
+    'parts': {'row_worth': 'grid row', 'plain_sum': 'grid row', 'renewed': 'grid worth', 'renewed_row': 'grid row',
+              'shows_shortest': 'grid worth value', 'product_row': 'grid one other', 'cross_signs': 'grid four'},
+    'programs': {'Program': 'text', 'joined': 'one other'},
+    'runs': {'run': 'program inputs', 'worths': 'program inputs', 'exact_run': 'program inputs',
+             'exact_worths': 'program inputs', 'mixed_run': 'program inputs lot', 'mixed_worths': 'program inputs lot',
+             'off_by': 'program inputs'},
+    'boxes': {'whole_box': 'program', 'points': 'program box', 'inputs_at': 'program box number',
+              'cut_at': 'program box name at', 'halved': 'program box'},
+    'ranges': {'ranges': 'program box', 'exact_ranges': 'program box'},
+    'lines': {'lines': 'program box', 'line_ends': 'line box', 'exact_lines': 'program box',
+              'plain_steps': 'program box', 'alike': 'program box'},
+    'claims': {'is_so': 'program claim inputs', 'broken_by': 'program claims inputs', 'so_often': 'program claim'},
+}
+METHODS = {
+    ('grids', 'Grid'): {'spacing': 'number', 'rank': 'number', 'number': 'rank', 'after': 'number', 'before': 'number',
+                        'more': 'figures', 'many': 'low high'},
+    ('programs', 'Program'): {'with_more': 'choices', 'narrowed': 'box'},
+}
+LIBRARY = {'math': ('gcd',)}
+BUILTINS = """len range enumerate zip min max sum abs sorted reversed int str bool list tuple dict set isinstance divmod
+repr any all ValueError""".split()
+VALUE_METHODS = """append count endswith extend find get index insert isalnum isalpha isdigit islower isspace isupper items
+join keys lower lstrip partition pop remove replace reverse rstrip setdefault split startswith strip update upper values
+isascii""".split()
+UNDERSCORED = """__init__ __eq__ __len__ __contains__""".split()
+WORDS = """type typing enum Enum Flag Generic Protocol ABC namedtuple abstractmethod open input register law mro elements
+eval exec exit compile dir vars globals locals hash id next iter map filter format round""".split()
+# The doctests of the examples leave a name _ behind.
+TAKEN = [name for name in dir(builtins) if name != '_']
+FORBIDDEN = (ast.Try, ast.GeneratorExp, ast.Global, ast.Nonlocal, ast.AsyncFunctionDef, ast.Await, ast.Yield,
+             ast.YieldFrom, ast.With, ast.Lambda, ast.NamedExpr, ast.SetComp, ast.Delete, ast.Match)
+
+
+def file_names():
+    """The files of the package."""
+    return sorted(name for name in os.listdir(FOLDER) if name != '__pycache__')
+
+
+def trees():
+    """The name of each file, without its ending, with its tree and its text."""
+    for name in file_names():
+        with open(os.path.join(FOLDER, name), encoding='ascii') as file:
+            text = file.read()
+        yield name[:-3], ast.parse(text), text
+
+
+def functions(tree):
+    """All functions and methods."""
+    return [node for node in ast.walk(tree) if isinstance(node, ast.FunctionDef)]
+
+
+def imports(tree):
+    """The imports, (module, name)."""
+    return [(node.module, row.name) for node in tree.body if isinstance(node, ast.ImportFrom) for row in node.names]
+
+
+def bound_names(function):
+    """The parameters and the variables of a function."""
+    names = [row.arg for row in function.args.args]
+    return names + [node.id for node in ast.walk(function) if isinstance(node, ast.Name) and isinstance(node.ctx, ast.Store)]
+
+
+class Interface(unittest.TestCase):
+    """What is listed is there, under its name, defined in its file."""
+
+    def test_functions_and_classes(self):
+        for file, rows in INTERFACE.items():
+            module = importlib.import_module(f'roundedsteps.{file}')
+            for name, told in rows.items():
+                part = getattr(module, name)
+                self.assertEqual(part.__module__, module.__name__)
+                self.assertEqual(list(inspect.signature(part).parameters), told.split())
+
+    def test_methods_stand_in_their_classes(self):
+        for (file, owner), rows in METHODS.items():
+            part = getattr(importlib.import_module(f'roundedsteps.{file}'), owner)
+            for name, told in rows.items():
+                self.assertIn(name, vars(part))
+                self.assertEqual(list(inspect.signature(vars(part)[name]).parameters), ['self'] + told.split())
+
+
+class Files(unittest.TestCase):
+    """The files by themselves."""
+
+    def test_only_plain_files(self):
+        for name in file_names():
+            self.assertRegex(name, r'^[a-z_]+\.py$')
+
+    def test_sizes_and_signs(self):
+        for name, tree, text in trees():
+            lines = text.split('\n')
+            self.assertLess(len(lines), 400, name)
+            self.assertLessEqual(max(len(line) for line in lines), 120, name)
+            self.assertTrue(all(sign == '\n' or ' ' <= sign <= '~' for sign in text), name)
+            for function in functions(tree):
+                self.assertLessEqual(function.end_lineno - function.lineno + 1, 40, (name, function.name))
+
+    def test_docstrings(self):
+        for name, tree, _ in trees():
+            for node in [tree] + [node for node in ast.walk(tree) if isinstance(node, (ast.ClassDef, ast.FunctionDef))]:
+                self.assertTrue(ast.get_docstring(node), (name, getattr(node, 'name', '')))
+
+    def test_module_level(self):
+        plain = (ast.Expr, ast.ImportFrom, ast.FunctionDef, ast.ClassDef, ast.Assign)
+        for name, tree, _ in trees():
+            for node in tree.body:
+                self.assertIsInstance(node, plain, name)
+                if isinstance(node, ast.Assign):
+                    ast.literal_eval(node.value)
+
+    def test_imports(self):
+        defined = {name: {node.name for node in tree.body if isinstance(node, (ast.FunctionDef, ast.ClassDef))}
+                   | {target.id for node in tree.body if isinstance(node, ast.Assign) for target in node.targets}
+                   for name, tree, _ in trees()}
+        known = {}
+        for name, tree, text in trees():
+            rows = imports(tree)
+            for module, part in rows:
+                if module in LIBRARY:
+                    self.assertIn(part, LIBRARY[module])
+                    continue
+                self.assertTrue(module.startswith('roundedsteps.'), (name, module))
+                self.assertIn(part, defined[module[13:]], (name, part))
+            names = [part for _, part in rows]
+            self.assertEqual(len(set(names) | defined[name]), len(names) + len(defined[name]), name)
+            for part in names:
+                self.assertGreater(text.count(part), 1, (name, part))
+            known[name] = {module[13:] for module, _ in rows if module not in LIBRARY}
+        while known:
+            free = [name for name, behind in known.items() if not behind]
+            self.assertTrue(free, f'these import one another: {known}')
+            known = {name: behind - set(free) for name, behind in known.items() if name not in free}
+
+    def test_nothing_is_left_over(self):
+        texts = ''.join(text for _, _, text in trees())
+        listed = {part for rows in list(INTERFACE.values()) + list(METHODS.values()) for part in rows}
+        for name, tree, _ in trees():
+            for function in functions(tree):
+                if function.name not in listed and function.name not in UNDERSCORED:
+                    self.assertGreater(texts.count(function.name), 1, (name, function.name))
+
+
+class Language(unittest.TestCase):
+    """What the functions are made of."""
+
+    def test_no_other_statements_and_expressions(self):
+        for name, tree, _ in trees():
+            for node in ast.walk(tree):
+                self.assertNotIsInstance(node, FORBIDDEN, (name, getattr(node, 'lineno', 0)))
+                if isinstance(node, ast.BinOp):
+                    self.assertNotIsInstance(node.op, (ast.Div, ast.Pow), (name, node.lineno))
+                if isinstance(node, ast.AugAssign):
+                    self.assertNotIsInstance(node.op, (ast.Mult, ast.Div, ast.Pow), (name, node.lineno))
+                if isinstance(node, ast.Constant):
+                    self.assertNotIsInstance(node.value, (float, complex, bytes), (name, node.lineno))
+                if isinstance(node, ast.Constant) and isinstance(node.value, str):
+                    self.assertNotIn('%', node.value, (name, node.lineno))
+                if isinstance(node, ast.Compare) and isinstance(node.ops[0], (ast.Is, ast.IsNot)):
+                    self.assertIsInstance(node.comparators[0], ast.Constant, (name, node.lineno))
+                if isinstance(node, (ast.FunctionDef, ast.ClassDef)):
+                    self.assertEqual(node.decorator_list, [], (name, node.lineno))
+                if isinstance(node, ast.FunctionDef):
+                    self.assertEqual(node.args.defaults, [], (name, node.lineno))
+                if isinstance(node, ast.Raise):
+                    self.assertIsInstance(node.exc, ast.Call, (name, node.lineno))
+
+    def test_names(self):
+        for name, tree, _ in trees():
+            taken = {part for _, part in imports(tree)}
+            taken |= {node.name for node in tree.body if isinstance(node, (ast.ClassDef, ast.FunctionDef))}
+            for function in functions(tree):
+                for bound in bound_names(function):
+                    self.assertNotIn(bound, taken, (name, function.name))
+                    self.assertNotIn(bound, TAKEN, (name, function.name))
+                    self.assertNotIn(bound, WORDS, (name, function.name))
+                self.assertNotIn(function.name, TAKEN, name)
+                if function.name.startswith('__'):
+                    self.assertIn(function.name, UNDERSCORED, name)
+
+    def test_builtins_and_methods(self):
+        own = {function.name for _, tree, _ in trees() for function in functions(tree)}
+        for name, tree, _ in trees():
+            for node in ast.walk(tree):
+                if isinstance(node, ast.Name) and node.id in TAKEN:
+                    self.assertIn(node.id, BUILTINS, (name, node.lineno))
+                if isinstance(node, ast.Call) and isinstance(node.func, ast.Attribute):
+                    self.assertIn(node.func.attr, set(VALUE_METHODS) | own, (name, node.lineno))
+                if isinstance(node, ast.Call):
+                    self.assertEqual(node.keywords, [], (name, node.lineno))
+
+    def test_methods_and_attributes_have_unlike_names(self):
+        methods, attributes = set(), set()
+        for _, tree, _ in trees():
+            for owner in [node for node in tree.body if isinstance(node, ast.ClassDef)]:
+                methods |= {node.name for node in owner.body if isinstance(node, ast.FunctionDef)}
+            attributes |= {node.attr for node in ast.walk(tree)
+                           if isinstance(node, ast.Attribute) and isinstance(node.ctx, ast.Store)}
+        self.assertEqual(methods & attributes, set())
+        taken = {part for kind in (str, int, list, dict, set, bytes, tuple) for part in dir(kind)}
+        self.assertEqual((methods | attributes) & taken, set(UNDERSCORED))
+
+    def test_sets_stand_where_they_are_used_up(self):
+        for name, tree, _ in trees():
+            calls = [node for node in ast.walk(tree) if isinstance(node, ast.Call)]
+            used = [id(call.args[0]) for call in calls if isinstance(call.func, ast.Name)
+                    and call.func.id in ('len', 'sorted')]
+            for call in calls:
+                if isinstance(call.func, ast.Name) and call.func.id == 'set':
+                    self.assertIn(id(call), used, (name, call.lineno))
+            self.assertFalse([node for node in ast.walk(tree) if isinstance(node, ast.Set)], name)
+
+
+if __name__ == '__main__':
+    unittest.main()
