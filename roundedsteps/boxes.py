@@ -36,7 +36,7 @@ def cut_at(program, box, name, at):
     """The boxes up to a number of an input, and behind it."""
     check_box(program, box)
     names = [row[0] for row in program.inputs]
-    if not isinstance(name, str) or name not in names:
+    if name not in names:
         raise BadName(name)
     place = names.index(name)
     low, high = box[place]

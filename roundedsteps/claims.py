@@ -100,7 +100,7 @@ def lost_nothing(program, name, known):
 
 def is_claim(program, value):
     """Whether any value is a claim about the program."""
-    if not isinstance(value, tuple) or value == () or not isinstance(value[0], str):
+    if not isinstance(value, tuple) or value == ():
         return False
     if value[0] == "sound":
         return len(value) == 1

@@ -32,7 +32,7 @@ class Program:
 
     def __contains__(self, value):
         """Whether any value is the name of an input or a step."""
-        return isinstance(value, str) and value in self.names
+        return value in self.names
 
     def with_more(self, choices):
         """The Program whose named steps keep just so many figures more."""
@@ -100,11 +100,9 @@ def is_choices(program, value):
 
 def is_choice(program, value):
     """Whether any value is a pair of a step + - * / and the figures more that it can keep."""
-    if not isinstance(value, tuple) or len(value) != 2 or not isinstance(value[0], str):
+    if not isinstance(value, tuple) or len(value) != 2 or value[0] not in rounded_names(program):
         return False
-    if value[0] not in rounded_names(program) or not is_from_to(value[1], 0, MOST_MORE):
-        return False
-    return program.grid.figures + value[1] <= MOST_FIGURES
+    return is_from_to(value[1], 0, MOST_MORE) and program.grid.figures + value[1] <= MOST_FIGURES
 
 
 def is_box(program, value):

@@ -40,9 +40,7 @@ def times(one, other):
 
 
 def ratio(one, other):
-    """One divided by the other one, in least terms; None if this is 0."""
-    if other[0] == 0:
-        return None
+    """One divided by the other one, which is not 0, in least terms."""
     top = one[0] * other[1]
     bottom = one[1] * other[0]
     return reduced(top, bottom) if bottom > 0 else reduced(-top, -bottom)

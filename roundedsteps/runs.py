@@ -107,10 +107,10 @@ def is_inputs(program, value):
 
 def is_lot(program, value):
     """Whether any value is an ascending tuple of names of steps + - * /."""
-    if not isinstance(value, tuple) or not all([isinstance(part, str) for part in value]):
-        return False
     names = rounded_names(program)
-    return all([part in names for part in value]) and list(value) == sorted(set(value))
+    if not isinstance(value, tuple) or not all([part in names for part in value]):
+        return False
+    return list(value) == sorted(set(value))
 
 
 def check_inputs(program, inputs):

@@ -26,7 +26,7 @@ def read_program(text):
     steps = read_steps(lines[at:], grid, names) if inputs else []
     at = at + len(steps)
     names = names + [step[0] for step in steps]
-    told = read_tell(lines[at], names) if inputs and at < len(lines) else None
+    told = read_tell(lines[at], names) if at < len(lines) else None
     if told is None:
         raise BadProgram(at + 1)
     if len(lines) > at + 1:

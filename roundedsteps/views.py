@@ -80,8 +80,9 @@ class View:
         pairs = ((one, other), (other, one)) if sign == "*" else ((other, one),)
         for number, line in pairs:
             if is_number_line(number):
+                # Where a divisor may be 0 there is no range, so none that is 0 comes here.
                 factor = ratio(number[0], (unit, 1)) if sign == "*" else ratio((unit, 1), number[0])
-                if factor is not None and (self.exact or factor[1] == 1):
+                if self.exact or factor[1] == 1:
                     return line_times(line, factor)
         return None
 
@@ -98,7 +99,7 @@ class View:
     def _is_kept_by_halves(self, step):
         """Whether a step takes two operands from one another that are at most twice one another."""
         sign, operands, more = step[1:4]
-        one, other = operands[:2]
+        one, other = operands
         if sign != "-" or max(self._extra_of(one), self._extra_of(other)) > more:
             return False
         line = self.line_of(one)

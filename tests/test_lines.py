@@ -176,6 +176,10 @@ class Rules(Case):
         self.same(self.line('s = a - 10', inputs=('a 4 20',)), None)
         self.same(self.line('s = a - 10', inputs=('a -20 -5',)), None)
         self.same(self.line('s = a - b', inputs=('a 5 20', 'b 8 10')), None)
+        self.same(self.line('s = a - -9', grid='3 2 4 0', inputs=('a -18 -5',)), (9, 1))
+        self.same(self.line('s = a - -9', grid='3 2 4 0', inputs=('a -18 -4',)), None)
+        self.same(self.line('s = a - 9', grid='3 2 4 0', inputs=('a 5 18',)), (-9, 1))
+        self.same(self.line('s = a - 9', grid='3 2 4 0', inputs=('a 4 18',)), None)
         self.same(self.plain('s = a - 10', 't = a + -10', 'u = 10 - a', inputs=('a 5 20',)), ('s', 'u'))
 
     def test_figures_of_operands(self):
@@ -291,6 +295,12 @@ class Rules(Case):
                   (('a',), ('b', 'u', 'v'), ('s', 't')))
         self.same(self.lots('s = a + b', 't = b + a', 'u = least s 24', 'v = least 24 t', 'w = u * v', 'x = u * u'),
                   (('a',), ('b',), ('s', 't'), ('u', 'v'), ('w', 'x')))
+
+    def test_lots_that_a_later_step_makes_one(self):
+        # p and q are a + b, but p's range is wider: j is sure to be q, and does what y does; so y is q, too.
+        self.same(self.lots('s = a - 1 keep 1', 'm = choose s a a 0', 'p = m + b', 'q = a + b', 'y = most p 14',
+                            'k = y * b', 'l = p * b', 'j = most q 14', grid='2 3 8 0'),
+                  (('a', 'm'), ('b',), ('s',), ('p', 'q', 'y', 'j'), ('k', 'l')))
 
     def test_lots_with_numbers(self):
         self.same(self.lots('s = a - a', 't = b * 0', 'u = s + 12', 'v = most 12 0'),

@@ -154,7 +154,7 @@ class Refusing(Case):
                      'input a -9 0', 'input A 0 7', 'input a1 0 7', 'input abcdefg 0 7', 'input  0 7', 'input a 00 7',
                      'input a 0 +7', 'input a -0 7', 'input a x 7', 'input grid 0 7', 'input input 0 7',
                      'input least 0 7', 'input keep 0 7', 'input way 0 7', 'input tell 0 7', 'input most 0 7',
-                     'input choose 0 7', 'a 0 7', 'input a_ 0 7', 'input a 0 29', 'input a 0 32'):
+                     'input choose 0 7', 'a 0 7', 'inputs a 0 7', 'Input a 0 7', ' a 0 7', 'a = 0 7', 'input a_ 0 7', 'input a 0 29', 'input a 0 32'):
             self.bad(2, SMALL_TEXT.replace('input a 0 7', line))
         self.bad(3, SMALL_TEXT.replace('input b', 'input a'))
         self.assertEqual(Program(SMALL_TEXT.replace('a 0 7', 'a -28 -28')).inputs[0], ('a', -28, -28))
