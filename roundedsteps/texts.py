@@ -20,10 +20,10 @@ def read_program(text):
     grid = read_grid(lines[0])
     if grid is None:
         raise BadProgram(1)
-    inputs = read_inputs(lines[1:], grid)
+    inputs = read_rows(read_input, lines[1:1 + MOST_INPUTS], grid, [])
     names = [row[0] for row in inputs]
     at = 1 + len(inputs)
-    steps = read_steps(lines[at:], grid, names) if inputs else []
+    steps = read_rows(read_step, lines[at:at + MOST_STEPS], grid, names) if inputs else []
     at = at + len(steps)
     names = names + [step[0] for step in steps]
     told = read_tell(lines[at], names) if at < len(lines) else None
@@ -43,15 +43,15 @@ def read_grid(line):
     return Grid(*told) if is_grid(told) else None
 
 
-def read_inputs(lines, grid):
-    """The inputs that stand first in these lines."""
-    inputs = []
-    for line in lines[:MOST_INPUTS]:
-        row = read_input(line, grid, [ahead[0] for ahead in inputs])
+def read_rows(read, lines, grid, names):
+    """What these lines tell one behind the other, each behind these names and those of the lines ahead of it."""
+    rows = []
+    for line in lines:
+        row = read(line, grid, names + [ahead[0] for ahead in rows])
         if row is None:
             break
-        inputs.append(row)
-    return inputs
+        rows.append(row)
+    return rows
 
 
 def read_input(line, grid, names):
@@ -64,17 +64,6 @@ def read_input(line, grid, names):
     if low not in grid or high not in grid or low > high:
         return None
     return (words[1], low, high)
-
-
-def read_steps(lines, grid, names):
-    """The steps that stand first in these lines, behind these names."""
-    steps = []
-    for line in lines[:MOST_STEPS]:
-        step = read_step(line, grid, names + [ahead[0] for ahead in steps])
-        if step is None:
-            break
-        steps.append(step)
-    return steps
 
 
 def read_step(line, grid, names):
