@@ -12,21 +12,19 @@ def whole_box(program):
 
 def points(program, box):
     """How many rows of inputs are in the box."""
-    many = 1
-    for count in side_counts(program, box):
-        many = many * count
-    return many
+    check_box(program, box)
+    return count_in(program.grid, box)
 
 
 def inputs_at(program, box, number):
     """The inputs in the box with this number, counted from 0 on, ascending."""
-    counts = side_counts(program, box)
-    if not is_from_to(number, 0, points(program, box) - 1):
+    check_box(program, box)
+    if not is_from_to(number, 0, count_in(program.grid, box) - 1):
         raise BadNumber(number)
     row = []
     left = number
     # The last input changes first, as in tuples that ascend.
-    for pair, count in reversed(list(zip(box, counts))):
+    for pair, count in reversed(list(zip(box, side_counts(program.grid, box)))):
         row.append(number_in(program.grid, pair, left % count))
         left = left // count
     return tuple(row[::-1])
@@ -35,47 +33,95 @@ def inputs_at(program, box, number):
 def cut_at(program, box, name, at):
     """The boxes up to a number of an input, and behind it."""
     check_box(program, box)
-    names = [row[0] for row in program.inputs]
-    if name not in names:
+    place = input_place(program, name)
+    if place is None:
         raise BadName(name)
-    place = names.index(name)
-    low, high = box[place]
-    if at not in program.grid or not low <= at < high:
+    if not can_cut(program.grid, box[place], at):
         raise BadCut(at)
-    below = box[:place] + ((low, at),) + box[place + 1:]
-    above = box[:place] + ((program.grid.after(at), high),) + box[place + 1:]
-    return (below, above)
+    return two_parts(program.grid, box, place, at)
 
 
 def halved(program, box):
     """The boxes that come of a cut through the middle of the input with the most numbers, None for a point."""
-    counts = side_counts(program, box)
-    most = max(counts)
-    if most == 1:
+    check_box(program, box)
+    if is_point(box):
         return None
-    place = counts.index(most)
-    at = number_in(program.grid, box[place], (most + 1) // 2 - 1)
-    return cut_at(program, box, program.inputs[place][0], at)
+    place, at = middle_cut(program.grid, box)
+    return two_parts(program.grid, box, place, at)
 
 
 def rows_in(program, box):
     """All inputs in the box, ascending."""
     rows = [()]
-    for pair, count in zip(box, side_counts(program, box)):
+    for pair, count in zip(box, side_counts(program.grid, box)):
         numbers = [number_in(program.grid, pair, place) for place in range(count)]
         rows = [ahead + (number,) for ahead in rows for number in numbers]
     return rows
 
 
-def side_counts(program, box):
+def count_in(grid, box):
+    """How many rows of inputs are in a box that is known to be right."""
+    many = 1
+    for count in side_counts(grid, box):
+        many = many * count
+    return many
+
+
+def side_counts(grid, box):
     """How many numbers the box has of each input."""
-    check_box(program, box)
-    return [program.grid.many(low, high) for low, high in box]
+    return [grid.many(low, high) for low, high in box]
 
 
 def number_in(grid, pair, place):
     """The number at this place, from 0 on, of those from low to high."""
     return grid.number(grid.rank(pair[0]) + place)
+
+
+def input_place(program, name):
+    """The place of the input of this name, None without one."""
+    names = [row[0] for row in program.inputs]
+    return names.index(name) if name in names else None
+
+
+def can_cut(grid, pair, at):
+    """Whether any value is a number at which what is from a low to a high can be cut."""
+    return at in grid and pair[0] <= at < pair[1]
+
+
+def two_parts(grid, box, place, at):
+    """The boxes up to a number of the input at this place, and behind it."""
+    low, high = box[place]
+    below = box[:place] + ((low, at),) + box[place + 1:]
+    above = box[:place] + ((grid.after(at), high),) + box[place + 1:]
+    return (below, above)
+
+
+def middle_cut(grid, box):
+    """The place of the input, and its number, at which a box that is no point is halved."""
+    counts = side_counts(grid, box)
+    most = max(counts)
+    place = counts.index(most)
+    return (place, number_in(grid, box[place], (most + 1) // 2 - 1))
+
+
+def is_point(box):
+    """Whether the box has one row of inputs."""
+    return all([low == high for low, high in box])
+
+
+def point_box(inputs):
+    """The box of one row of inputs."""
+    return tuple([(number, number) for number in inputs])
+
+
+def lows(box):
+    """The first inputs of the box."""
+    return tuple([pair[0] for pair in box])
+
+
+def is_in_box(inputs, box):
+    """Whether inputs of the program are in its box."""
+    return all([low <= number <= high for number, (low, high) in zip(inputs, box)])
 
 
 def check_box(program, box):

@@ -21,10 +21,7 @@ def is_so(program, claim, inputs):
 
 def broken_by(program, claims, inputs):
     """The numbers of the claims that are not so at these inputs."""
-    if not isinstance(claims, tuple):
-        raise BadClaim(claims)
-    for claim in claims:
-        check_claim(program, claim)
+    check_claims(program, claims)
     check_inputs(program, inputs)
     return broken_places(program, claims, inputs)
 
@@ -127,3 +124,11 @@ def check_claim(program, claim):
     """Raise BadClaim for what is no claim about the program."""
     if not is_claim(program, claim):
         raise BadClaim(claim)
+
+
+def check_claims(program, claims):
+    """Raise BadClaim for what is no tuple of claims, for the first part that is none if it is a tuple."""
+    if not isinstance(claims, tuple):
+        raise BadClaim(claims)
+    for claim in claims:
+        check_claim(program, claim)

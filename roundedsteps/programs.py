@@ -1,6 +1,6 @@
 """Programs: rows of rounded steps over inputs."""
 
-from roundedsteps.errors import BadBox, BadChoices, BadProgram, OtherInputs, TooLong
+from roundedsteps.errors import BadBox, BadChoices, BadProgram, NoName, OtherInputs, TooLong
 from roundedsteps.grids import MOST_FIGURES, MOST_MORE
 from roundedsteps.signs import ROUNDED_SIGNS
 from roundedsteps.texts import MOST_STEPS, MOST_TOLD, program_text, read_program
@@ -117,3 +117,9 @@ def is_range(grid, value, low, high):
     if not isinstance(value, tuple) or len(value) != 2:
         return False
     return value[0] in grid and value[1] in grid and low <= value[0] <= value[1] <= high
+
+
+def check_name(program, name):
+    """Raise NoName for what is no name of the program."""
+    if name not in program:
+        raise NoName(name)

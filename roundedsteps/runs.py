@@ -5,15 +5,13 @@ from roundedsteps.programs import rounded_names
 from roundedsteps.ratios import minus, reduced
 from roundedsteps.rounding import fitted
 from roundedsteps.signs import ROUNDED_SIGNS, chosen, outcome
+from roundedsteps.whole import is_ascending
 
 
 def run(program, inputs):
     """What the run tells, or at which step it ends, and why."""
     check_inputs(program, inputs)
-    known, end = walked(program, inputs, ())
-    if end is not None:
-        return end
-    return ("tells", tuple([known[name][0] for name in program.told]))
+    return end_of(program, inputs)
 
 
 def worths(program, inputs):
@@ -59,6 +57,18 @@ def off_by(program, inputs):
     if exact[0] != "tells":
         raise NoEnd(exact)
     return tuple([minus(worth, right) for worth, right in zip(told[1], exact[1])])
+
+
+def end_of(program, inputs):
+    """What run tells of inputs that are known to be right."""
+    known, end = walked(program, inputs, ())
+    return ("tells", tuple([known[name][0] for name in program.told])) if end is None else end
+
+
+def answer_at(program, inputs):
+    """The results that the run tells, None if it does not tell."""
+    told = end_of(program, inputs)
+    return told[1] if told[0] == "tells" else None
 
 
 def walked(program, inputs, free):
@@ -110,7 +120,7 @@ def is_lot(program, value):
     names = rounded_names(program)
     if not isinstance(value, tuple) or not all([part in names for part in value]):
         return False
-    return list(value) == sorted(set(value))
+    return is_ascending(value)
 
 
 def check_inputs(program, inputs):

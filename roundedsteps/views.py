@@ -4,7 +4,7 @@ from math import gcd
 
 from roundedsteps.grids import spacing_at
 from roundedsteps.ranges import operand_span, spans
-from roundedsteps.ratios import is_less, ratio
+from roundedsteps.ratios import greater, is_less, minus, ratio
 from roundedsteps.signs import ROUNDED_SIGNS
 from roundedsteps.slopes import input_line, is_number_line, line_difference, line_span, line_sum, line_times
 from roundedsteps.slopes import number_line
@@ -112,6 +112,15 @@ class View:
         """The range of a name or a number, None without one."""
         return operand_span(self.spans, operand)
 
+    def told_spans(self, name):
+        """From where to where it is told that a name goes: its range, and the ends of its line."""
+        found = []
+        if self.spans[name] is not None:
+            found.append(self.spans[name])
+        if self.drawn[name] is not None:
+            found.append(line_span(self.drawn[name], self.box))
+        return found
+
     def line_of(self, operand):
         """The line of a name or a number, None without one."""
         return self.drawn[operand] if isinstance(operand, str) else number_line((operand, 1), len(self.box))
@@ -134,6 +143,12 @@ class View:
         ends = self.difference_span(one, other)
         return ends is not None and ends[1][0] <= 0
 
+    def side_of(self, one, other):
+        """True if it is sure that one operand is less than the other one, False if that it is not, None if neither."""
+        if self.is_below(one, other):
+            return True
+        return False if self.is_at_most(other, one) else None
+
     def difference_span(self, one, other):
         """The ends of the difference of two operands' lines, None unless both have lines."""
         line = self.line_of(one)
@@ -147,9 +162,10 @@ class View:
         sign, operands = step[1:3]
         one, other = operands[:2]
         if sign == "choose":
-            if self.is_below(one, other):
-                return operands[2]
-            return operands[3] if self.is_at_most(other, one) else None
+            side = self.side_of(one, other)
+            if side is None:
+                return None
+            return operands[2] if side else operands[3]
         below, above = (one, other) if sign == "least" else (other, one)
         if self.is_at_most(below, above):
             return one
@@ -176,3 +192,18 @@ def least_size(pair):
     if pair[0] <= 0 <= pair[1]:
         return 0
     return min(abs(pair[0]), abs(pair[1]))
+
+
+def off_bounds(view, exact, name):
+    """How far from its exact worth it is told that a name is at the most: by ranges, and by lines."""
+    found = []
+    span = view.spans[name]
+    right = exact.spans[name]
+    if span is not None and right is not None:
+        found.append(greater(minus(span[1], right[0]), minus(right[1], span[0])))
+    line = view.drawn[name]
+    right_line = exact.drawn[name]
+    if line is not None and right_line is not None:
+        low, high = line_span(line_difference(line, right_line), view.box)
+        found.append(greater(high, (-low[0], low[1])))
+    return found

@@ -11,6 +11,22 @@ def is_from_to(value, low, high):
     return is_whole(value) and low <= value <= high
 
 
+def is_just(value, wanted):
+    """Whether any value is this integer, string, None or tuple of such, by its kinds, too: True is not 1."""
+    if isinstance(wanted, tuple):
+        if not isinstance(value, tuple) or len(value) != len(wanted):
+            return False
+        return all([is_just(part, also) for part, also in zip(value, wanted)])
+    if isinstance(wanted, str):
+        return isinstance(value, str) and value == wanted
+    return value is None if wanted is None else is_whole(value) and value == wanted
+
+
+def is_ascending(row):
+    """Whether numbers, or strings, ascend, none of them standing twice."""
+    return list(row) == sorted(set(row))
+
+
 def power(base, exponent):
     """The base to the exponent, an integer from 0 on."""
     number = 1

@@ -135,3 +135,73 @@ def turned_step(step):
     sign = {'least': 'most', 'most': 'least'}.get(sign, sign)
     way = {'down': 'up', 'up': 'down'}.get(way, way)
     return name, sign, tuple(parts), more, way
+
+
+def some_twisted(chance):
+    """A program whose differences often come to the other side of 0."""
+    ways = [chance.choice(['', ' way up', ' way down', ' way zero']) for _ in range(2)]
+    low = chance.choice([20, 24, 28])
+    lines = [f'grid 2 {chance.choice([3, 4])} 4 0', f'input a {low} 28', f'input b {chance.randint(-4, 1)} {chance.randint(1, 4)}',
+             's0 = a + b' + ways[0], f's1 = {chance.choice([20, 24])} + {chance.choice([1, 2, 3])}' + ways[1],
+             f's2 = {chance.choice(["s0 - s1", "s1 - s0", "a - s1", "s0 - a"])}', 's3 = choose s0 s1 a b']
+    return Program('\n'.join(lines + ['tell s2']))
+
+
+def some_claims(chance, program):
+    """Claims of all sorts about the program."""
+    name, other = chance.choice(program.names), chance.choice(program.names)
+    low = chance.randint(-30, 30)
+    number = chance.choice([0, 0, 1, 1, 2, 5, 20])
+    claims = [('sound',), ('within', name, low, low + chance.choice([0, 3, 30])), ('atmost', name, other),
+              ('same', name, other), ('plain', name), ('nearest', name), ('off', name, number), ('sure', name, number)]
+    return claims + [('straight', step[0]) for step in program.steps if step[1] == 'choose'][:2]
+
+
+def paths(value, ahead=()):
+    """The ways to all parts of a value, itself with them."""
+    found = [ahead]
+    if isinstance(value, tuple):
+        for place, part in enumerate(value):
+            found += paths(part, ahead + (place,))
+    return found
+
+
+def part_at(value, path):
+    """The part at the end of a way."""
+    for place in path:
+        value = value[place]
+    return value
+
+
+def exchanged_at(value, path, part):
+    """The value with another part at the end of a way."""
+    if not path:
+        return part
+    place = path[0]
+    return value[:place] + (exchanged_at(value[place], path[1:], part),) + value[place + 1:]
+
+
+def part_variants(chance, part):
+    """Other values for a part: of other kinds, next to it, shorter, longer, in another sequence."""
+    if isinstance(part, str):
+        return [chance.choice(['box', 'cut', 'so', 'not', 'in', 'out', 'broken', 'a', 'b', 'x', 's0', 's1']), None, 0, (part,)]
+    if part is None:
+        return [0, (), False]
+    if isinstance(part, int):
+        return [part + 1, part - 1, -part, str(part), None, (part,)] + [bool(part)] * 3 * (part in (0, 1))
+    found = [list(part), (), part + (None,), part + part[-1:], None, part[::-1]]
+    for place in range(len(part)):
+        found += [part[:place] + part[place + 1:], part[place]]
+        if place:
+            found.append(part[:place - 1] + (part[place], part[place - 1]) + part[place + 1:])
+    return found
+
+
+def variants(chance, value, many):
+    """So many values that are near a value, itself the first one."""
+    found = [value]
+    ways = paths(value)
+    while len(found) < many:
+        way = chance.choice(ways)
+        found.append(exchanged_at(value, way, chance.choice(part_variants(chance, part_at(value, way)))))
+    return found

@@ -1,10 +1,12 @@
 """A slow and plain reckoning, straight from the document's words, that the program is held against."""
 
 from fractions import Fraction
+from functools import lru_cache
 from itertools import product
 from math import ceil, floor
 
 
+@lru_cache
 def all_numbers(base, figures, reach):
     """All numbers of a grid, ascending."""
     found = set()

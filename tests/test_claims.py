@@ -7,21 +7,11 @@ from roundedsteps.claims import broken_by, is_so, so_often
 from roundedsteps.errors import BadClaim, BadInputs
 from roundedsteps.programs import Program
 from tests import slow
-from tests.helping import SMALL_TEXT, Case, some_program, wrong_values
+from tests.helping import SMALL_TEXT, Case, some_claims, some_program, wrong_values
 from tests.test_runs import turned_about, without_products
 
 PAIR = Program('grid 2 2 3 0\ninput a 0 6\ninput b 1 4\ns = a + b\nt = s - b\nc = choose s 4 a b\ntell t')
 HEAD = 'grid 10 2 2 1\ninput a -99 120\ninput b -5 5\n'
-
-
-def some_claims(chance, program):
-    """Claims of all sorts about the program."""
-    name, other = chance.choice(program.names), chance.choice(program.names)
-    low = chance.randint(-30, 30)
-    number = chance.choice([0, 0, 1, 1, 2, 5, 20])
-    claims = [('sound',), ('within', name, low, low + chance.choice([0, 3, 30])), ('atmost', name, other),
-              ('same', name, other), ('plain', name), ('nearest', name), ('off', name, number), ('sure', name, number)]
-    return claims + [('straight', step[0]) for step in program.steps if step[1] == 'choose'][:2]
 
 
 class Against(Case):

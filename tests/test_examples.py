@@ -1,4 +1,4 @@
-"""The examples of sections 4 to 12, as they stand in the document."""
+"""The examples of sections 4 to 22, as they stand in the document."""
 
 import doctest
 import unittest
@@ -76,6 +76,75 @@ EXAMPLES = r"""
 [False, True, True, True]
 >>> [broken_by(pair, (('sound',), wish, ('plain', 's'), ('within', 't', 0, 2)), (3, 2)), so_often(pair, wish)]
 [(1, 2), 16]
+
+>>> from roundedsteps.deciding import decided, first_open
+>>> [decided(pair, wish, box) for box in (((0, 2), (1, 1)), ((2, 3), (2, 2)), ((3, 3), (2, 2)))]
+['so', 'open', 'not']
+>>> first_open(pair, (('sound',), ('within', 't', -4, 8), wish), ((0, 6), (1, 4)))
+2
+
+>>> from roundedsteps.proving import leaves, proved, shows_proved, so_many
+>>> [proved(back, ('same', 't', 'a'))[0], shows_proved(back, ('same', 't', 'a'), ('broken', (96, 5))), shows_proved(back, ('within', 't', 86, 120), ('cut', ('box',)))]
+['broken', True, True]
+>>> near = ('cut', 'a', 94, ('box',), ('cut', 'b', 5, ('box',), ('box',)))
+>>> [leaves(back, near), so_many(back, ('cut', 'a', 94, ('so',), ('not',)))]
+[(((90, 94), (5, 9)), ((95, 120), (5, 5)), ((95, 120), (6, 9))), 25]
+
+>>> from roundedsteps.fewest import fewest, pins, reaches, shows_pins
+>>> twice = Program('grid 10 1 1 0\ninput a 1 9\ns = a + a\nt = s - a\ntell t')
+>>> [reaches(twice, ('within', 't', 1, 10), 4), len(fewest(twice, ('within', 't', 1, 10))[1]), shows_pins(twice, ('within', 't', 1, 10), (1, 5, 8))]
+[7, 3, True]
+
+>>> from roundedsteps.ends import farthest, greatest, shows_farthest, shows_turned, turned
+>>> [greatest(two, 's')[:2], farthest(two, 's')[:2], shows_farthest(two, 'd', ('off', (0, 1), (8, 14), ('box',)))]
+[('at', 28), ('off', (2, 1)), True]
+>>> near = Program('grid 2 3 4 0\ninput a 8 14\ns = a + 8\nt = a + 10\ntell s t')
+>>> [turned(near, 't', 's')[0], turned(near, 's', 't')[0], shows_turned(near, 's', 't', ('turned', (8,)))]
+['straight', 'turned', True]
+
+>>> from roundedsteps.alike import first_unlike, shows_same_for_all, unlike_many
+>>> head = 'grid 2 3 4 0\ninput a 8 14\ninput b 8 14\n'
+>>> sums = [Program(head + rest) for rest in ('s = a + b\ntell s', 's = b + a\ntell s', 'h = a - 8\nk = b + 8\ns = h + k\ntell s')]
+>>> [shows_same_for_all(sums[0], sums[1], ('same', ('box',))), first_unlike(sums[0], sums[2]), unlike_many(sums[0], sums[2])[0]]
+[True, (10, 10), 4]
+
+>>> from roundedsteps.rules import led, led_by, leads, pruned
+>>> [led(there, 'turn', 's').text.split('\n')[3], led(there, 'back', 't').text.split('\n')[3:], pruned(led(there, 'back', 't')).text.split('\n')[3:]]
+['s = b + a', ['s = a + b', 'tell a'], ['tell a']]
+>>> [leads(there), led_by(there, (('minus', 't'), ('group', 't'))).text.split('\n')[3:]]
+[(('turn', 's'), ('back', 't'), ('minus', 't')), ['n1 = 0 - b', 'n2 = b + n1', 't = a + n2', 'tell t']]
+
+>>> from roundedsteps.leastprogram import least_program, made, never_better, parting
+>>> plain = Program('grid 2 3 2 0\ninput a 0 3\ninput b 0 3\ns = a + b\nt = s - b\ntell t')
+>>> [parting(there, led(there, 'turn', 's')), parting(plain, pruned(led(plain, 'back', 't'))), least_program(plain, ((), (), 0)).told, made(plain, (('+', '-'), (1,), 1))]
+[None, None, ('a',), 20]
+>>> least_program(Program('grid 2 3 2 0\ninput a 0 3\ns = most a 0\nt = s + a\ntell t'), (('+',), (), 1)).text.split('\n')[2:]
+['w1 = a + a', 'tell w1']
+
+>>> from roundedsteps.programs import Program
+>>> from roundedsteps.seen import how_many, is_left, left_boxes, shows_left_tree, shows_spread, spread, surely
+>>> small = Program('grid 2 2 3 0\ninput x 0 12\ns = x + 1\nt = s - x\ntell t')
+>>> seen = (('t', 1, 2),)
+>>> [how_many(small, seen), is_left(small, seen, (4,)), spread(small, seen, 's'), surely(small, seen, ('within', 'x', 0, 3))]
+[5, False, ('worths', 1, (0,), 8, (6,)), ('broken', (6,))]
+>>> tree = ('cut', 'x', 2, ('in',), ('cut', 'x', 3, ('in',), ('cut', 'x', 4, ('out',), ('cut', 'x', 6, ('in',), ('cut', 'x', 8, ('out',), ('out',))))))
+>>> [shows_left_tree(small, seen, tree), left_boxes(small, tree), shows_left_tree(small, seen, ('cut', 'x', 3, ('in',), ('out',)))]
+[True, (((0, 2),), ((3, 3),), ((6, 6),)), False]
+
+>>> from roundedsteps.looks import best_ask, cheapest_names, counted, knows, shows_best_ask
+>>> [counted(small, (), 't'), best_ask(small, (), ('t',)), knows(small, seen, ('s',), 'x')[0], knows(small, (), ('s',), 'x')[0]]
+[((0, 3), (1, 4), (2, 1)), ('ask', 't', 0, 3, 5), 'known', 'parts']
+>>> [shows_best_ask(small, (), ('s', 't'), ('ask', 's', 4, 5, 3)), cheapest_names(small, (), (('s', 2), ('t', 2)), 'x')[:3]]
+[True, ('names', 4, ('s', 't'))]
+
+>>> from roundedsteps.apart import fewest_inputs, fitting, kinds, shows_plan
+>>> three = tuple([Program('grid 2 2 3 0\ninput x 0 12\ns = x + 1' + way + '\ntell s') for way in ('', ' way down', ' way up')])
+>>> [[one.steps[0][4] for one in three], kinds(three)]
+[['near', 'down', 'up'], ((0,), (1,), (2,))]
+>>> [fewest_inputs(three)[0], fitting(three, (((6,), (8,)),)), fitting(three, (((6,), (8,)), ((12,), (16,))))]
+[2, (0, 2), (2,)]
+>>> shows_plan(three, (2, ('ask', (6,), (((6,), ('kind', (1,))), ((8,), ('ask', (4,), (((4,), ('kind', (0,))), ((6,), ('kind', (2,))))))))))
+True
 """
 
 
@@ -87,7 +156,7 @@ class Examples(unittest.TestCase):
         examples = doctest.DocTestParser().get_doctest(EXAMPLES, {}, 'examples', None, 0)
         found = doctest.DocTestRunner(verbose=False).run(examples, out=told.append)
         self.assertEqual((found.failed, ''.join(told)), (0, ''))
-        self.assertGreater(found.attempted, 40)
+        self.assertGreater(found.attempted, 80)
 
 
 if __name__ == '__main__':

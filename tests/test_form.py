@@ -25,6 +25,31 @@ INTERFACE = {
     'lines': {'lines': 'program box', 'line_ends': 'line box', 'exact_lines': 'program box',
               'plain_steps': 'program box', 'alike': 'program box'},
     'claims': {'is_so': 'program claim inputs', 'broken_by': 'program claims inputs', 'so_often': 'program claim'},
+    'deciding': {'decided': 'program claim box', 'first_open': 'program claims box'},
+    'proving': {'leaves': 'program tree', 'proved': 'program claim', 'shows_proved': 'program claim value',
+                'proved_on': 'program claim box', 'shows_proved_on': 'program claim box value',
+                'parted': 'program claim', 'shows_parted': 'program claim value', 'so_many': 'program tree'},
+    'fewest': {'reaches': 'program claim low', 'fewest': 'program claim', 'shows_fewest': 'program claim value',
+               'pins': 'program claim', 'shows_pins': 'program claim value'},
+    'ends': {'greatest': 'program name', 'shows_greatest': 'program name value', 'lowest': 'program name',
+             'shows_lowest': 'program name value', 'farthest': 'program name', 'shows_farthest': 'program name value',
+             'turned': 'program one other', 'shows_turned': 'program one other value'},
+    'alike': {'same_for_all': 'one other', 'shows_same_for_all': 'one other value', 'unlike_many': 'one other',
+              'shows_unlike_many': 'one other value', 'first_unlike': 'one other'},
+    'rules': {'rule_names': '', 'led': 'program rule name', 'pruned': 'program', 'led_by': 'program row',
+              'leads': 'program', 'kept': 'program rule name', 'shows_kept': 'program rule name value'},
+    'leastprogram': {'all_inputs': 'program', 'parting': 'one other', 'made': 'program making',
+                     'least_program': 'program making', 'never_better': 'one other'},
+    'seen': {'is_left': 'program looks inputs', 'left_tree': 'program looks', 'shows_left_tree': 'program looks value',
+             'left_boxes': 'program tree', 'how_many': 'program looks', 'surely': 'program looks claim',
+             'shows_surely': 'program looks claim value', 'spread': 'program looks name',
+             'shows_spread': 'program looks name value'},
+    'looks': {'counted': 'program looks name', 'best_ask': 'program looks names',
+              'shows_best_ask': 'program looks names value', 'knows': 'program looks names goal',
+              'shows_knows': 'program looks names goal value', 'cheapest_names': 'program looks prices goal',
+              'shows_cheapest_names': 'program looks prices goal value'},
+    'apart': {'kinds': 'programs', 'fewest_inputs': 'programs', 'shows_fewest_inputs': 'programs value',
+              'fitting': 'programs seen', 'plan': 'programs', 'shows_plan': 'programs value'},
 }
 METHODS = {
     ('grids', 'Grid'): {'spacing': 'number', 'rank': 'number', 'number': 'rank', 'after': 'number', 'before': 'number',
@@ -43,7 +68,7 @@ eval exec exit compile dir vars globals locals hash id next iter map filter form
 # The doctests of the examples leave a name _ behind.
 TAKEN = [name for name in dir(builtins) if name != '_']
 FORBIDDEN = (ast.Try, ast.GeneratorExp, ast.Global, ast.Nonlocal, ast.AsyncFunctionDef, ast.Await, ast.Yield,
-             ast.YieldFrom, ast.With, ast.Lambda, ast.NamedExpr, ast.SetComp, ast.Delete, ast.Match)
+             ast.YieldFrom, ast.With, ast.NamedExpr, ast.SetComp, ast.Delete, ast.Match)
 
 
 def file_names():
@@ -73,6 +98,22 @@ def bound_names(function):
     """The parameters and the variables of a function."""
     names = [row.arg for row in function.args.args]
     return names + [node.id for node in ast.walk(function) if isinstance(node, ast.Name) and isinstance(node.ctx, ast.Store)]
+
+
+def is_plain(node, functions_above):
+    """Whether a value at module level is plain: literal, or a dict of literals and of functions above it."""
+    parts = node.values if isinstance(node, ast.Dict) else [node]
+    parts = [part for part in parts if not isinstance(part, ast.Name) or part.id not in functions_above]
+    return all(isinstance(part, (ast.Constant, ast.Tuple, ast.List, ast.Dict)) and is_literal(part) for part in parts)
+
+
+def is_literal(node):
+    """Whether a value is written out."""
+    try:
+        ast.literal_eval(node)
+    except ValueError:
+        return False
+    return True
 
 
 class Interface(unittest.TestCase):
@@ -118,10 +159,13 @@ class Files(unittest.TestCase):
     def test_module_level(self):
         plain = (ast.Expr, ast.ImportFrom, ast.FunctionDef, ast.ClassDef, ast.Assign)
         for name, tree, _ in trees():
+            above = []
             for node in tree.body:
                 self.assertIsInstance(node, plain, name)
                 if isinstance(node, ast.Assign):
-                    ast.literal_eval(node.value)
+                    self.assertTrue(is_plain(node.value, above), (name, node.lineno))
+                if isinstance(node, ast.FunctionDef):
+                    above.append(node.name)
 
     def test_imports(self):
         defined = {name: {node.name for node in tree.body if isinstance(node, (ast.FunctionDef, ast.ClassDef))}
