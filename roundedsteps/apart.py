@@ -65,7 +65,7 @@ def shows_plan(programs, value):
     cuts = all_cuts(programs)
     everyone = tuple(range(len(programs)))
     many = plan_many(programs, kinds_of(len(programs), cuts), everyone, value[1])
-    return many is not None and is_just(value[0], many) and many == plan_for(programs, cuts, everyone, {})[0]
+    return is_just(value[0], many) and many == plan_for(programs, cuts, everyone, {})[0]
 
 
 def all_cuts(programs):

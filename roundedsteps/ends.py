@@ -149,7 +149,7 @@ def put_by_bound(waiting, bound, box):
 def is_above(one, other):
     """Whether one bound is greater than the other one, no bound being greater than all others."""
     if one is None or other is None:
-        return one is None and other is not None
+        return other is not None
     return is_less(other, one)
 
 

@@ -87,7 +87,7 @@ def spread(program, looks, name):
 def shows_spread(program, looks, name, value):
     """Whether any value tells the least and the greatest worth of a name at inputs that are left, and such inputs."""
     told = spread(program, looks, name)
-    if told == ("none",) or not isinstance(value, tuple) or len(value) != 5:
+    if not isinstance(value, tuple) or len(value) != 5:
         return is_just(value, told)
     if not is_just(value[:2] + value[3:4], told[:2] + told[3:4]):
         return False

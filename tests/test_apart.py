@@ -218,6 +218,9 @@ class Edges(Case):
                       (2, ('ask', (6,), (low, ((8,), ('ask', (4,), below[::-1]))))), (2, ('ask', (0,), (((1,), ask),))),
                       (3, ('ask', (0,), (((1,), ask),))), (2, ('ask', (6,), (((6,), ('kind', ())), high))), (2, None), None):
             self.same(shows_plan(THREE, value), False)
+        # An ask that leaves all makes this plan no longer than the best one, but is none.
+        useless = ('ask', (6,), (((6,), ('ask', (0,), (((1,), ('kind', (1,))),))), high))
+        self.same(shows_plan(THREE, (2, useless)), False)
         other = ('ask', (4,), (((4,), ('ask', (6,), (((6,), ('kind', (1,))), ((8,), ('kind', (0,)))))), ((6,), ('kind', (2,)))))
         self.same(shows_plan(THREE, (2, other)), True)
 
@@ -252,6 +255,9 @@ class Edges(Case):
         self.same(told[0], 2)
         self.same(told[1][:2], ('ask', (0,)))
         self.same([shows_plan(programs, told), Slow(programs).shows_plan(told)], [True, True])
+        one, other = told[1][2]
+        for rows in (((one[0], ('kind', (0, 1))), other), (one, (other[0], ('kind', (2, 3))))):
+            self.same(shows_plan(programs, (2, ('ask', (0,), rows))), False)
 
     def test_many_inputs(self):
         head = 'grid 10 2 0 0\ninput a 1 64\ninput b 1 64\n'

@@ -193,7 +193,8 @@ class Edges(Case):
             for call, shows in ((greatest, shows_greatest), (lowest, shows_lowest), (farthest, shows_farthest)):
                 self.same(call(NEVER, name), ('never',))
                 for value, so in ((('never',), True), (['never'], False), ('never', False), (('never', None), False), ((), False),
-                                  (('at', 0, (0,), ('box',)), False), (('off', (0, 1), (0,), ('box',)), False)):
+                                  (('at', 0, (0,), ('box',)), False), (('off', (0, 1), (0,), ('box',)), False),
+                                  (('at', None, (0,), ('box',)), False), (('off', None, (0,), ('box',)), False)):
                     self.same(shows(NEVER, name, value), so)
         self.same(greatest(NEVER, 'd'), ('at', 0, greatest(NEVER, 'd')[2], ('box',)))
         self.same(shows_greatest(NEVER, 'd', ('never',)), False)

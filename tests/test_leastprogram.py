@@ -134,6 +134,11 @@ class Edges(Case):
         self.same(parting(PLAIN, pruned(led(PLAIN, 'back', 't'))), None)
         self.same(least_program(PLAIN, ((), (), 0)).text, 'grid 2 3 2 0\ninput a 0 3\ninput b 0 3\ntell a')
         self.same(least_program(THERE, ((), (), 0)), None)
+        one_step = Program('grid 2 3 2 0\ninput a 0 3\ns = a + a\ntell s')
+        self.same([least_program(one_step, (('+',), (), 0)), least_program(one_step, ((), (), 2))], [None, None])
+        two_steps = Program('grid 2 3 2 0\ninput a 0 3\ns = a + a\nt = s - 5\ntell t')
+        self.same(least_program(two_steps, (('+', '-'), (5,), 1)), None)
+        self.same(len(least_program(two_steps, (('+', '-'), (5,), 2))), 2)
         self.same([made(PLAIN, making) for making in ((('+', '-'), (1,), 1), ((), (), 2), (('+',), (), 2), (('+',), (), 0))],
                   [20, 2, 2 + 4 + 36, 2])
 
@@ -206,6 +211,8 @@ class Refused(Case):
         self.refused_with(ManyInputs, 4160, parting, MANY, MANY)
         self.refused_with(ManyInputs, 4160, least_program, MANY, ((), (), 0))
         self.refused_with(ManyInputs, 4160, never_better, TOLD_TWICE, TOLD_TWICE)
+        one_more = Program('grid 10 3 0 0\ninput a 1 17\ninput b 1 241\ntell a')
+        self.refused_with(ManyInputs, 4097, all_inputs, one_more)
         great = Program(f'grid 10 30 60 0\ninput a 0 {10 ** 89}\ntell a')
         self.refused_with(ManyInputs, great.grid.rank(10 ** 89) + 1, all_inputs, great)
 

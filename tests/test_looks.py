@@ -202,6 +202,10 @@ class Edges(Case):
                           (('ask', 's', 17, 1, 2), False), (('ask', 's', 20, 3, 0), False), (('none',), False)):
             self.same(shows_best_ask(program, (), ('s',), value), so)
         self.same(max(best_ask(program, (), ('a', 's'))[3:]), 2)
+        program = Program('grid 10 2 2 0\ninput a 1 3\ns = a + 100 keep 1\ntell s')
+        told = best_ask(program, (), ('s',))
+        self.assertIn(told[2], program.grid)
+        self.same(max(told[3:]), 3)
 
     def test_worths_beyond_the_grid(self):
         # The greatest number is 24: with figures more steps come to more than that.
