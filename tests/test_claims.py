@@ -14,6 +14,22 @@ PAIR = Program('grid 2 2 3 0\ninput a 0 6\ninput b 1 4\ns = a + b\nt = s - b\nc 
 HEAD = 'grid 10 2 2 1\ninput a -99 120\ninput b -5 5\n'
 
 
+def wrong_claims():
+    """Values that are no claims about PAIR."""
+    return wrong_values() + [
+        'sound', ['sound'], ('Sound',), ('sound', 'a'), ('sound', ()), ('within', 't', 0), ('within', 't', 0, 1, 2),
+        ('within', 't', 2, 1), ('within', 'x', 0, 1), ('within', 't', True, 1), ('within', 't', 0, True),
+        ('within', 't', None, 1), ('within', 't', '0', 1), ('within', 0, 1, 't'), ('within', ('t',), 0, 1),
+        ('within', 't', (0, 1)), ('within',), ('atmost', 't'), ('atmost', 't', 'x'), ('atmost', 'x', 't'),
+        ('atmost', 't', 5), ('atmost', 't', 'a', 'b'), ('atmost', ['t'], 'a'), ('same', 't', ['a']), ('same', 't'),
+        ('same', 't', 'a', 'a'), ('same', 5, 't'), ('plain',), ('plain', 'x'), ('plain', 't', 0), ('plain', 5),
+        ('plain', None), ('nearest',), ('nearest', 't', 1), ('nearest', ''), ('off', 't'), ('off', 't', -1),
+        ('off', 't', True), ('off', 't', '1'), ('off', 'x', 1), ('off', 't', 1, 2), ('sure', 't'), ('sure', 't', -1),
+        ('sure', 't', None), ('sure', 't', False), ('sure', ('t', 1)), ('straight', 't'), ('straight', 'a'),
+        ('straight',), ('straight', 'c', 1), ('straight', 'x'), (('sound',),), ('unsure', 't', 1), ('', 't'),
+        (PAIR, 't'), ('plain', PAIR), (5, 't'), (None, 't'), ('t', 'plain')]
+
+
 class Against(Case):
     """All sorts of claims at all inputs of small programs, held against the slow reckoning."""
 
@@ -164,28 +180,13 @@ class Sorts(Case):
 class Refused(Case):
     """What is no claim, and wrong inputs."""
 
-    def wrong_claims(self):
-        """Values that are no claims about PAIR."""
-        return wrong_values() + [
-            'sound', ['sound'], ('Sound',), ('sound', 'a'), ('sound', ()), ('within', 't', 0), ('within', 't', 0, 1, 2),
-            ('within', 't', 2, 1), ('within', 'x', 0, 1), ('within', 't', True, 1), ('within', 't', 0, True),
-            ('within', 't', None, 1), ('within', 't', '0', 1), ('within', 0, 1, 't'), ('within', ('t',), 0, 1),
-            ('within', 't', (0, 1)), ('within',), ('atmost', 't'), ('atmost', 't', 'x'), ('atmost', 'x', 't'),
-            ('atmost', 't', 5), ('atmost', 't', 'a', 'b'), ('atmost', ['t'], 'a'), ('same', 't', ['a']), ('same', 't'),
-            ('same', 't', 'a', 'a'), ('same', 5, 't'), ('plain',), ('plain', 'x'), ('plain', 't', 0), ('plain', 5),
-            ('plain', None), ('nearest',), ('nearest', 't', 1), ('nearest', ''), ('off', 't'), ('off', 't', -1),
-            ('off', 't', True), ('off', 't', '1'), ('off', 'x', 1), ('off', 't', 1, 2), ('sure', 't'), ('sure', 't', -1),
-            ('sure', 't', None), ('sure', 't', False), ('sure', ('t', 1)), ('straight', 't'), ('straight', 'a'),
-            ('straight',), ('straight', 'c', 1), ('straight', 'x'), (('sound',),), ('unsure', 't', 1), ('', 't'),
-            (PAIR, 't'), ('plain', PAIR), (5, 't'), (None, 't'), ('t', 'plain')]
-
     def test_claims(self):
-        for value in self.wrong_claims():
+        for value in wrong_claims():
             self.refused(BadClaim, value, is_so, PAIR, value, None)
             self.refused(BadClaim, value, so_often, PAIR, value)
 
     def test_claims_among_others(self):
-        for value in self.wrong_claims():
+        for value in wrong_claims():
             self.refused(BadClaim, value, broken_by, PAIR, (('sound',), value, ('plain', 'x')), None)
             if not isinstance(value, tuple):
                 self.refused(BadClaim, value, broken_by, PAIR, value, None)

@@ -1,4 +1,4 @@
-"""The examples of sections 4 to 22, as they stand in the document."""
+"""The examples of sections 4 to 30, as they stand in the document."""
 
 import doctest
 import unittest
@@ -145,6 +145,77 @@ EXAMPLES = r"""
 [2, (0, 2), (2,)]
 >>> shows_plan(three, (2, ('ask', (6,), (((6,), ('kind', (1,))), ((8,), ('ask', (4,), (((4,), ('kind', (0,))), ((6,), ('kind', (2,))))))))))
 True
+
+>>> from roundedsteps.figures import cheapest, upward
+>>> from roundedsteps.programs import Program
+>>> back = Program('grid 2 3 4 0\ninput a 1 7\ninput b 1 7\ns = a + b\nt = s - a\ntell t')
+>>> told = cheapest(back, ('same', 't', 'b'), (('t', 1), ('s', 4)))
+>>> [told[:3], len(told[4]), cheapest(back, ('same', 't', 'b'), (('t', 9),))[0], upward(back, ('same', 't', 'b'), (('s', 1),))]
+[('choice', 4, (('t', 0), ('s', 1))), 4, 'none', ('upward',)]
+
+>>> from roundedsteps.blame import blamed, cure, holds_mixed, shares
+>>> [blamed(back, ('same', 't', 'b'), (7, 2)), blamed(back, ('same', 't', 'b'), (1, 2)), shares(back, (7, 2))]
+[(('s',),), ((),), (('s', (-1, 1)), ('t', (0, 1)))]
+>>> [holds_mixed(back, ('same', 't', 'b'), ('t',), (7, 2)), cure(back, ('same', 't', 'b'), ((1, 7), (1, 7)))[:2], blamed(back, ('within', 't', 5, 5), (7, 2))]
+[False, ('lot', ('s',)), ()]
+
+>>> from roundedsteps.filters import least_bound, safe, sign_counts, sign_told
+>>> sides = Program('grid 2 3 6 0\ninput a 5 7\ninput b 5 7\np = a * b\nq = b * b\nd = p - q\ntell d')
+>>> [least_bound(sides, ())[:2], least_bound(sides, ())[3], sign_told(sides, (((), 0),), (6, 5)), sign_told(sides, (((), 0),), (5, 6))]
+[('bound', 0), None, (0, 1), None]
+>>> [sign_counts(sides, (((), 0), ((('p', 3), ('q', 3)), 0)), ((5, 7), (5, 7))), sign_counts(sides, (((), 8),), ((5, 7), (5, 7)))]
+[(5, 1, 3), (1, 8)]
+
+>>> from roundedsteps.folds import folded, least_closed, least_kept, shows_least_kept
+>>> from roundedsteps.programs import Program
+>>> lines = 'grid 2 3 4 0\ninput s 0 112\ninput p 1 3\nr = s + p\ntell r'
+>>> adding = Program(lines)
+>>> [folded(adding, 6, (3, 3, 1)), least_closed(adding, (0, 1)), least_kept(adding, (0, 1))]
+[('tells', (6, 8, 12, 12)), ('closed', ((0, 32),)), ('kept', 0, 32)]
+>>> short = Program(lines.replace('112', '20'))
+>>> told = least_closed(short, (0, 1))
+>>> [told[0], len(told[2]), folded(short, 20, (1, 2)), shows_least_kept(short, (20, 20), ('none', ((20, 2),)))]
+['leaves', 7, (('left', 24), 1, (20, 20)), True]
+
+>>> from roundedsteps.far import behind, drift, ring, stall, stuck
+>>> from roundedsteps.grids import Grid
+>>> tiny = Grid(2, 3, 4, 0)
+>>> [stuck(adding, 3), ring(adding, 6, 3), behind(adding, 6, 3, 10 ** 12), behind(short, 6, 3, 9)]
+[((32, 112),), ('ring', 7, 1), ('state', 32), (('left', 24), 4)]
+>>> [stall(tiny, 0, 1, 'near'), stall(tiny, 0, 1, 'up'), drift(tiny, 0, 1, 'up', 10), drift(Grid(2, 20, 40, 0), 0, 1, 'near', 10 ** 15)]
+[('stalls', 8, 8), ('over', 23), ('state', 12), ('state', 1048576)]
+
+>>> from roundedsteps.bins import binned, exact_level
+>>> from roundedsteps.orders import all_sums, best_tree, one_answer, shows_one_answer, tree_sum, worst_tree
+>>> some = (6, 3, 1)
+>>> [tree_sum(tiny, some, ((0, 1), 2), 'near'), tree_sum(tiny, some, ((1, 2), 0), 'near'), [row[0] for row in all_sums(tiny, some, 'near')[0]]]
+[8, 10, [8, 10]]
+>>> [one_answer(tiny, (4, 2, 1), 'near'), shows_one_answer(tiny, some, 'near', ('two', ((0, 1), 2), ((0, 2), 1)))]
+[('one', 7), True]
+>>> [best_tree(tiny, some, 'near')[0], worst_tree(tiny, some, 'near')[0]]
+[0, 2]
+>>> [exact_level(tiny, 3, 7)[0], binned(tiny, some, 7)]
+[2, (4, 6)]
+
+>>> from roundedsteps.bench import Bench
+>>> bench = Bench(small)
+>>> bench.claim(('within', 's', 1, 8))
+>>> bench.see('t', 1, 2)
+>>> [bench.how_many(), bench.holds(), bench.done]
+[5, ('surely',), 2]
+>>> bench.tried(lambda held: held.narrow('x', 0, 3) or held.how_many())
+4
+>>> bench.undo()
+>>> [bench.holds(), bench.looks, bench.program == small]
+[('broken',), (), True]
+
+>>> from roundedsteps.desk import Desk
+>>> from roundedsteps.journals import journal
+>>> desk = Desk(small.text + '\nbench\nclaim within s 1 8')
+>>> [desk.say(line) for line in ('many', 'see t 1 2', 'many', 'holds', 'spread s', 'run 6', 'put u = s + t keep 1', 'step u', 'undo')]
+['8', 'ok', '5', 'surely', '1 8', '2', 'ok', 'u = s + t keep 1', 'ok']
+>>> journal(desk.bench) == small.text + '\nbench\nclaim within s 1 8\nsee t 1 2'
+True
 """
 
 
@@ -156,7 +227,7 @@ class Examples(unittest.TestCase):
         examples = doctest.DocTestParser().get_doctest(EXAMPLES, {}, 'examples', None, 0)
         found = doctest.DocTestRunner(verbose=False).run(examples, out=told.append)
         self.assertEqual((found.failed, ''.join(told)), (0, ''))
-        self.assertGreater(found.attempted, 80)
+        self.assertEqual(found.attempted, 127)
 
 
 if __name__ == '__main__':

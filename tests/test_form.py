@@ -50,11 +50,37 @@ INTERFACE = {
               'shows_cheapest_names': 'program looks prices goal value'},
     'apart': {'kinds': 'programs', 'fewest_inputs': 'programs', 'shows_fewest_inputs': 'programs value',
               'fitting': 'programs seen', 'plan': 'programs', 'shows_plan': 'programs value'},
+    'figures': {'cheapest': 'program claim prices', 'shows_cheapest': 'program claim prices value',
+                'choices_told': 'program claim prices', 'shows_choices_told': 'program claim prices value',
+                'upward': 'program claim prices', 'shows_upward': 'program claim prices value'},
+    'blame': {'holds_mixed': 'program claim lot inputs', 'blamed': 'program claim inputs', 'cure': 'program claim box',
+              'shows_cure': 'program claim box value', 'shares': 'program inputs'},
+    'filters': {'least_bound': 'program choice', 'shows_least_bound': 'program choice value',
+                'sign_told': 'program stages inputs', 'sign_counts': 'program stages box', 'safe': 'program stages',
+                'shows_safe': 'program stages value', 'cheapest_stages': 'program prices last box',
+                'shows_cheapest_stages': 'program prices last box value'},
+    'folds': {'folded': 'program start parts', 'least_closed': 'program starts', 'shows_least_closed': 'program starts value',
+              'least_kept': 'program starts', 'shows_least_kept': 'program starts value'},
+    'far': {'stuck': 'program part', 'ring': 'program start part', 'behind': 'program start part laps',
+            'drift': 'grid start part way laps', 'stall': 'grid start part way'},
+    'orders': {'tree_sum': 'grid numbers tree way', 'all_sums': 'grid numbers way', 'one_answer': 'grid numbers way',
+               'shows_one_answer': 'grid numbers way value', 'best_tree': 'grid numbers way',
+               'shows_best_tree': 'grid numbers way value', 'worst_tree': 'grid numbers way',
+               'shows_worst_tree': 'grid numbers way value'},
+    'bins': {'exact_level': 'grid many greatest', 'shows_exact_level': 'grid many greatest value',
+             'binned': 'grid numbers greatest'},
+    'bench': {'Bench': 'program'},
+    'journals': {'journal': 'bench', 'read_journal': 'text'},
+    'desk': {'Desk': 'text'},
 }
 METHODS = {
     ('grids', 'Grid'): {'spacing': 'number', 'rank': 'number', 'number': 'rank', 'after': 'number', 'before': 'number',
                         'more': 'figures', 'many': 'low high'},
     ('programs', 'Program'): {'with_more': 'choices', 'narrowed': 'box'},
+    ('bench', 'Bench'): {'narrow': 'name low high', 'see': 'name low high', 'refine': 'name more', 'put': 'line', 'take': 'name',
+                         'tell': 'names', 'claim': 'claim', 'unclaim': 'number', 'how_many': '', 'holds': '', 'spread': 'name',
+                         'undo': '', 'redo': '', 'trial': '', 'keep': '', 'tried': 'look keep', 'copy': ''},
+    ('desk', 'Desk'): {'say': 'line'},
 }
 LIBRARY = {'math': ('gcd',)}
 BUILTINS = """len range enumerate zip min max sum abs sorted reversed int str bool list tuple dict set isinstance divmod
@@ -62,13 +88,13 @@ repr any all ValueError""".split()
 VALUE_METHODS = """append count endswith extend find get index insert isalnum isalpha isdigit islower isspace isupper items
 join keys lower lstrip partition pop remove replace reverse rstrip setdefault split startswith strip update upper values
 isascii""".split()
-UNDERSCORED = """__init__ __eq__ __len__ __contains__""".split()
+UNDERSCORED = """__init__ __eq__ __len__ __contains__ __enter__ __exit__""".split()
 WORDS = """type typing enum Enum Flag Generic Protocol ABC namedtuple abstractmethod open input register law mro elements
 eval exec exit compile dir vars globals locals hash id next iter map filter format round""".split()
 # The doctests of the examples leave a name _ behind.
 TAKEN = [name for name in dir(builtins) if name != '_']
-FORBIDDEN = (ast.Try, ast.GeneratorExp, ast.Global, ast.Nonlocal, ast.AsyncFunctionDef, ast.Await, ast.Yield,
-             ast.YieldFrom, ast.With, ast.NamedExpr, ast.SetComp, ast.Delete, ast.Match)
+FORBIDDEN = (ast.GeneratorExp, ast.Global, ast.Nonlocal, ast.AsyncFunctionDef, ast.Await, ast.Yield,
+             ast.YieldFrom, ast.NamedExpr, ast.SetComp, ast.Delete, ast.Match)
 
 
 def file_names():
@@ -96,7 +122,7 @@ def imports(tree):
 
 def bound_names(function):
     """The parameters and the variables of a function."""
-    names = [row.arg for row in function.args.args]
+    names = [row.arg for row in function.args.args + function.args.kwonlyargs]
     return names + [node.id for node in ast.walk(function) if isinstance(node, ast.Name) and isinstance(node.ctx, ast.Store)]
 
 
@@ -223,6 +249,28 @@ class Language(unittest.TestCase):
                 if isinstance(node, ast.Raise):
                     self.assertIsInstance(node.exc, ast.Call, (name, node.lineno))
 
+    def test_tries_and_blocks(self):
+        errors = {name for name, part in vars(importlib.import_module('roundedsteps.errors')).items() if isinstance(part, type)}
+        for name, tree, _ in trees():
+            for node in ast.walk(tree):
+                if isinstance(node, ast.Try):
+                    self.assertEqual((node.finalbody, node.orelse), ([], []), (name, node.lineno))
+                    for handler in node.handlers:
+                        self.assertIn(handler.type.id, errors - {'ValueError'}, (name, node.lineno))
+                if isinstance(node, ast.With):
+                    self.assertTrue(all(isinstance(item.context_expr, ast.Name) for item in node.items), (name, node.lineno))
+                if isinstance(node, ast.FunctionDef):
+                    self.assertTrue(all(isinstance(part, ast.Constant) for part in node.args.kw_defaults), (name, node.lineno))
+                    self.assertEqual((node.args.vararg, node.args.kwarg, node.args.posonlyargs), (None, None, []), (name, node.lineno))
+
+    def test_what_ends_a_block_is_simple(self):
+        ends = [node for _, tree, _ in trees() for node in functions(tree) if node.name == '__exit__']
+        self.assertEqual(len(ends), 1)
+        self.assertEqual([row.arg for row in ends[0].args.args], ['self', 'kind', 'value', 'trace'])
+        for node in ast.walk(ends[0]):
+            self.assertNotIsInstance(node, (ast.Call, ast.Subscript, ast.Return, ast.For, ast.While, ast.Raise))
+            self.assertFalse(isinstance(node, ast.Name) and node.id in ('value', 'trace'))
+
     def test_names(self):
         for name, tree, _ in trees():
             taken = {part for _, part in imports(tree)}
@@ -256,7 +304,7 @@ class Language(unittest.TestCase):
                            if isinstance(node, ast.Attribute) and isinstance(node.ctx, ast.Store)}
         self.assertEqual(methods & attributes, set())
         taken = {part for kind in (str, int, list, dict, set, bytes, tuple) for part in dir(kind)}
-        self.assertEqual((methods | attributes) & taken, set(UNDERSCORED))
+        self.assertEqual((methods | attributes) & taken, {'__init__', '__eq__', '__len__', '__contains__', 'copy'})
 
     def test_sets_stand_where_they_are_used_up(self):
         for name, tree, _ in trees():
