@@ -32,7 +32,7 @@ class Bench:
 
     def __contains__(self, value):
         """Whether any value is a name of the program as it is now."""
-        return value in self.program
+        return value in self.program.names
 
     def narrow(self, name, low, high):
         """Give an input a range within the one that it has."""

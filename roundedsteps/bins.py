@@ -35,8 +35,6 @@ def binned(grid, numbers, greatest):
     for place, number in enumerate(numbers):
         if abs(number) > greatest:
             raise TooGreat(place)
-    if numbers == ():
-        return (0, 0)
     unit = power(grid.base, level_for(grid, len(numbers), greatest))
     worth = sum([cut_to(number, unit) for number in numbers])
     return (worth, sum(numbers) - worth)
@@ -55,7 +53,7 @@ def first_gap(grid, level):
     if level < grid.reach:
         # One more than all figures make is a power of the base: this still is a number, the next one is not.
         return grid.limits[0] + 1
-    return max(1, grid.limits[0] // power(grid.base, level - grid.reach))
+    return grid.limits[0] // power(grid.base, level - grid.reach)
 
 
 def row_below(grid, greatest, level):

@@ -21,12 +21,13 @@ class Desk:
         if told is None:
             raise BadLine(line)
         word, parts = told
+        bench = self.bench
         if word in ANSWERS:
             answer = ANSWERS[word]
-            return answer(self.bench, parts)
-        deeds = deeds_of(self.bench)
-        deeds["undo"] = self.bench.undo
-        deeds["redo"] = self.bench.redo
+            return answer(bench, parts)
+        deeds = deeds_of(bench)
+        deeds["undo"] = bench.undo
+        deeds["redo"] = bench.redo
         do_deed(deeds[word], parts)
         return "ok"
 

@@ -86,9 +86,10 @@ def summed(grid, start, part, way, laps):
 def laps_ahead(grid, state, number, part, way):
     """How far each lap goes from a number on that follows a state, and how many laps go so far at least."""
     low, high = ground_of(grid, state)
-    if not all([low <= worth <= high for worth in (number, state + part, number + part)]):
+    # States and exact sums go one way, so those ahead of the next sum are on the same ground if it is.
+    if not low <= number + part <= high:
         return (0, 0)
-    # All steps but the first one between two powers of the base are the same.
+    # There all steps but the first one are the same.
     further = fitted(grid, number + part, 1, way, 0)
     if further is None or further == number:
         return (0, 0)
@@ -97,7 +98,7 @@ def laps_ahead(grid, state, number, part, way):
 
 
 def ground_of(grid, worth):
-    """The least and the greatest integer with the spacing, and, where that is not 1, on the side of a worth."""
+    """The least and the greatest integer between the same powers of the base as a worth; those around 0 are one."""
     spacing = spacing_at(grid, abs(worth), 0)
     high = spacing * grid.limits[0] - 1
     if spacing == 1:

@@ -2,7 +2,7 @@
 
 from roundedsteps.blame import check_few
 from roundedsteps.boxes import check_box, rows_in, whole_box
-from roundedsteps.errors import BadChoices, BadNumber, BadStages
+from roundedsteps.errors import BadNumber, BadStages
 from roundedsteps.figures import MOST_TABLED, check_step_prices, choices_of, shows_with, told_with
 from roundedsteps.programs import is_choices, rounded_names
 from roundedsteps.runs import answer_at, check_inputs, is_inputs, walked
@@ -14,9 +14,10 @@ MOST_LAST = 999
 
 def least_bound(program, choice):
     """The least bound by which a stage with this choice is safe, and what shows it; or inputs with which none is."""
-    check_choice(program, choice)
+    # with_more refuses what is no choice.
+    kept = program.with_more(choice)
     rows = rows_in(program, whole_box(program))
-    number, inputs = bound_at(program.with_more(choice), rows, exact_signs(program, rows))
+    number, inputs = bound_at(kept, rows, exact_signs(program, rows))
     if number is None:
         return ("ends", inputs)
     return ("bound", number, told_with(program, sure_claim(program, number), choice, ())[1], inputs)
@@ -24,11 +25,11 @@ def least_bound(program, choice):
 
 def shows_least_bound(program, choice, value):
     """Whether any value tells the least bound and what shows it, or inputs with which none is safe."""
-    check_choice(program, choice)
+    kept = program.with_more(choice)
     if not isinstance(value, tuple) or len(value) not in (2, 4):
         return False
     if len(value) == 2:
-        return value[0] == "ends" and is_inputs(program, value[1]) and is_lost(program, choice, value[1])
+        return value[0] == "ends" and is_inputs(program, value[1]) and is_lost(program, kept, value[1])
     word, number, tree, inputs = value
     if word != "bound" or not is_whole(number) or number < 0:
         return False
@@ -166,9 +167,9 @@ def exact_signs(program, rows):
     return signs
 
 
-def is_lost(program, choice, inputs):
-    """Whether the run with a choice does not tell at inputs, or the exact run does not come to the first result."""
-    return bound_at(program.with_more(choice), [inputs], exact_signs(program, [inputs]))[0] is None
+def is_lost(program, kept, inputs):
+    """Whether the run with more figures does not tell at inputs, or the exact run lacks the first result."""
+    return bound_at(kept, [inputs], exact_signs(program, [inputs]))[0] is None
 
 
 def sure_claim(program, bound):
@@ -211,12 +212,6 @@ def is_stage(program, value):
     if not isinstance(value, tuple) or len(value) != 2 or not is_choices(program, value[0]):
         return False
     return is_whole(value[1]) and value[1] >= 0
-
-
-def check_choice(program, choice):
-    """Raise BadChoices for what with_more does not take."""
-    if not is_choices(program, choice):
-        raise BadChoices(choice)
 
 
 def check_stages(program, stages):

@@ -121,11 +121,11 @@ def rows_of(sums):
 
 
 def lots_by_size(places):
-    """All lots of some of these places, each behind all that are within it."""
+    """All lots of these places, each behind all that are within it."""
     found = [()]
     for place in places:
         found = found + [lot + (place,) for lot in found]
-    return found[1:]
+    return found
 
 
 def two_lots(lot):

@@ -2,6 +2,8 @@
 
 import unittest
 
+from roundedsteps.bench import Bench
+from roundedsteps.desk import Desk
 from roundedsteps.errors import RoundError
 from roundedsteps.grids import Grid
 from roundedsteps.programs import Program
@@ -20,7 +22,8 @@ def deep(times):
 def wrong_values():
     """Values of all kinds that are not integers, nor anything else that is asked for here."""
     return [True, False, None, '', 'x', '1', ' ', (), (1,), (True,), (None,), ('x',), [], [1], [(0, 1)], {}, {1: 2},
-            {'a': ()}, Grid(2, 3, 2, 0), Program(SMALL_TEXT), deep(29), (1, [2]), ((), ()), ('s', 1, 2, 3, 4)]
+            {'a': ()}, Grid(2, 3, 2, 0), Program(SMALL_TEXT), Bench(Program(SMALL_TEXT)), Desk(SMALL_TEXT + '\nbench'), deep(29),
+            (1, [2]), ((), ()), ('s', 1, 2, 3, 4)]
 
 
 class Case(unittest.TestCase):

@@ -235,6 +235,9 @@ class Edges(Case):
             self.refused_with(ManyInputs, many, shows_cure, program, ('sound',), box, None)
         self.same(cure(program, ('sound',), ((0, 15), (0, 32))), ('lot', (), ()))
         self.same(cure(program, ('sound',), ((0, 32), (0, 15)))[0], 'lot')
+        line = Program('grid 10 3 0 0\ninput a 0 999\ns = a - 1\ntell s')
+        self.same(cure(line, ('sound',), ((1, 400),)), ('lot', (), ()))
+        self.refused_with(ManyInputs, 401, cure, line, ('sound',), ((0, 400),))
 
     def test_values_of_any_kind(self):
         for value in wrong_values():

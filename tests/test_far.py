@@ -203,6 +203,19 @@ class Sums(Case):
             told, turned = drift(grid, start, part, way, laps), drift(grid, -start, -part, back[way], laps)
             self.same(turned, told if told[0] == 'over' else ('state', -told[1]))
 
+    def test_multiplied_with_the_base(self):
+        chance = random.Random(206)
+        many = 0
+        for _ in range(400):
+            grid = Grid(chance.choice([2, 3, 10]), chance.randint(1, 12), chance.randint(2, 30), 0)
+            start, part, way = some_number(chance, grid), some_number(chance, grid), chance.choice(WAYS)
+            laps = chance.randint(0, 10 ** chance.randint(1, 18))
+            told = drift(grid, start, part, way, laps)
+            if max(abs(number) for number in (start, part, told[1])) * grid.base <= grid.greatest and told[0] == 'state':
+                self.same(drift(grid, grid.base * start, grid.base * part, way, laps), ('state', grid.base * told[1]))
+                many += 1
+        self.assertGreater(many, 100)
+
 
 class Refused(Case):
     """Wrong arguments, the first error first."""

@@ -197,6 +197,7 @@ class Edges(Case):
         self.same(shows_cheapest(BACK, WISH, (('t', 9),), ('none', ((7, 2),) * 4)), True)
         self.same([shows_cheapest(BACK, WISH, (('t', 9),), ('none', part)) for part in
                    (((7, 2),) * 3, ((7, 2),) * 5, ((7, 2),) * 3 + ((1, 1),), (), [(7, 2)] * 4, None)], [False] * 6)
+        self.same(shows_cheapest(BACK, WISH, (('t', 9),), ('choice', 0, (('t', 0),), ('box',), ((7, 2),) * 4)), False)
         self.same(upward(BACK, WISH, (('s', 1),)), ('upward',))
 
     def test_the_sequence_of_choices(self):

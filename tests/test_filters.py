@@ -327,6 +327,10 @@ class Edges(Case):
         self.refused_with(ManyInputs, 17 * 25, shows_cheapest_stages, program, (('s', 1),), 5, box, None)
         self.same(sign_counts(program, (((), 0),), ((0, 15), (0, 32))), (399, 1))
         self.same(cheapest_stages(program, (('s', 1),), 5, ((0, 15), (0, 32)))[0], 400 + 5)
+        line = Program('grid 10 3 0 0\ninput a 0 999\ns = a - 1\ntell s')
+        self.same(sign_counts(line, (((), 0),), ((0, 399),)), (399, 1))
+        self.refused_with(ManyInputs, 401, sign_counts, line, (((), 0),), ((0, 400),))
+        self.refused_with(ManyInputs, 401, cheapest_stages, line, (('s', 1),), 5, ((0, 400),))
 
     def test_values_of_any_kind(self):
         stages = (((), 0),)

@@ -283,6 +283,14 @@ class Edges(Case):
             self.same(shows_least_closed(away, (4, 4), value), False)
         self.same(shows_least_closed(away, (4, 4), ('closed', ((4, 4), (12, 12)))), True)
 
+    def test_ranges_split_and_joined(self):
+        for starts, lots in (((0, 1), (((0, 8), (10, 32)), ((0, 7), (8, 32)), ((0, 32), (32, 32)), ((0, 20), (16, 32)), ((0, 32), (40, 40)), ((0, 28),), ((0, 40),),
+                                       ((1, 32),), ((0, 32),) * 2, (0, 32), ((0, 32, 32),), ((32, 0),))),):
+            self.same(shows_least_closed(ADDING, starts, ('closed', ((0, 32),))), True)
+            self.same([shows_least_closed(ADDING, starts, ('closed', lot)) for lot in lots], [False] * len(lots))
+        self.same([shows_least_kept(ADDING, (0, 1), value) for value in (('kept', 0, 32), ('kept', 0, 40), ('kept', 0, 28), ('kept', 1, 32), ('kept', 32, 0),
+                                                                         ('kept', (0, 32)), ('kept', 0, 32, 32))], [True] + [False] * 6)
+
     def test_any_rows_that_lead_out(self):
         self.same(folded(SHORT, 1, (3,) * 6)[1][-1], 20)
         states = folded(SHORT, 1, (3,) * 6)[1]

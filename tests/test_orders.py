@@ -192,6 +192,21 @@ class Against(Case):
                 one, other = call(grid, numbers, way), call(grid, turned, back)
                 self.assertEqual(one and one[0], other and other[0])
 
+    def test_multiplied_with_the_base(self):
+        chance = random.Random(216)
+        many = 0
+        for _ in range(300):
+            grid, numbers = some_numbers(chance, chance.randint(1, 5))
+            way, base = chance.choice(WAYS), grid.base
+            sums, over = all_sums(grid, numbers, way)
+            if over is not None or any(abs(found) * base > grid.greatest for found in numbers + tuple(row[0] for row in sums)):
+                continue
+            found, over = all_sums(grid, tuple(base * number for number in numbers), way)
+            if over is None:
+                self.assertEqual([row[0] for row in found], [base * row[0] for row in sums])
+                many += 1
+        self.assertGreater(many, 60)
+
 
 class Edges(Case):
     """What the section names."""
