@@ -144,7 +144,7 @@ class Bench:
         block = self.block
         if block is None:
             raise NoTrial(None)
-        block.is_kept = True
+        block.mark_kept()
 
     def tried(self, look, *, keep=False):
         """What look tells of the bench, in a block that is kept if keep is True."""
@@ -152,7 +152,7 @@ class Bench:
         with block:
             told = look(self)
             if keep is True:
-                block.is_kept = True
+                block.mark_kept()
         return told
 
     def copy(self):

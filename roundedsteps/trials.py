@@ -7,7 +7,12 @@ class Trial:
     def __init__(self, bench):
         """Take the bench, which is not changed yet."""
         self.bench = bench
-        self.is_kept = False
+        # None until the block is kept, for __exit__ asks only whether something is None.
+        self.kept = None
+
+    def mark_kept(self):
+        """Let what is done in the block stand behind it, if no error leaves it."""
+        self.kept = True
 
     def __enter__(self):
         """Begin the block, the innermost one of the bench from now on."""
@@ -27,7 +32,7 @@ class Trial:
         """End the block; an error passes on."""
         bench = self.bench
         bench.block = self.outer
-        if kind is not None or not self.is_kept:
+        if kind is not None or self.kept is None:
             bench.past = self.past
             bench.future = self.future
             bench.program = self.program

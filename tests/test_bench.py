@@ -2,6 +2,7 @@
 
 import random
 import unittest
+from itertools import product
 
 from roundedsteps.bench import Bench
 from roundedsteps.claims import is_so
@@ -567,6 +568,84 @@ class Blocks(Case):
                     bench.keep()
             self.same(bench.done, wanted)
 
+    def undone(self):
+        """A bench with two deeds that stand and one that can be done again."""
+        bench = self.made()
+        bench.undo()
+        return bench
+
+    def test_one_block_as_a_whole(self):
+        bench = self.undone()
+        before = stand(bench)
+        for keep in (False, True):
+            with bench.trial():
+                bench.redo()
+                bench.undo()
+                bench.undo()
+                bench.tell(('s',))
+                inside = stand(bench)
+                if keep:
+                    self.assertIsNone(bench.keep())
+                self.assertEqual(stand(bench), inside)
+            self.refused(NoTrial, None, bench.keep)
+            self.assertEqual(stand(bench), inside if keep else before)
+
+    def test_keep_holds_for_what_comes_behind_it_too(self):
+        bench = self.undone()
+        with bench.trial():
+            bench.keep()
+            bench.keep()
+            bench.tell(('s',))
+            bench.undo()
+            inside = stand(bench)
+        self.assertEqual(stand(bench), inside)
+        # What was kept once keeps no later block.
+        with bench.trial():
+            bench.redo()
+        self.assertEqual(stand(bench), inside)
+
+    def test_blocks_within_blocks_as_a_whole(self):
+        for outer, inner, late in product((False, True), repeat=3):
+            bench = self.undone()
+            before = stand(bench)
+            with bench.trial():
+                if outer and not late:
+                    bench.keep()
+                bench.undo()
+                ahead = stand(bench)
+                with bench.trial() as held:
+                    self.assertIs(held, bench)
+                    bench.tell(('a',))
+                    bench.undo()
+                    if inner:
+                        bench.keep()
+                    behind = stand(bench)
+                self.assertEqual(stand(bench), behind if inner else ahead)
+                bench.see('s', 1, 2)
+                last = stand(bench)
+                if outer and late:
+                    bench.keep()
+            self.assertEqual(stand(bench), last if outer else before)
+            self.refused(NoTrial, None, bench.keep)
+
+    def test_three_blocks_deep(self):
+        for keeps in product((False, True), repeat=3):
+            bench = self.made()
+            with bench.trial():
+                bench.tell(('s',))
+                with bench.trial():
+                    bench.tell(('a',))
+                    with bench.trial():
+                        bench.tell(('b',))
+                        if keeps[2]:
+                            bench.keep()
+                    if keeps[1]:
+                        bench.keep()
+                if keeps[0]:
+                    bench.keep()
+            wanted = [('s',), ('a',), ('b',)][:(keeps + (False,)).index(False)]
+            self.same([bench.done, bench.program.told], [3 + len(wanted), (wanted or [('t',)])[-1]])
+
     def test_blocks_one_behind_the_other(self):
         bench = self.made()
         with bench.trial():
@@ -599,6 +678,37 @@ class Blocks(Case):
             self.error_of(bench.take, 's')
             bench.keep()
         self.same(bench.done, 4)
+
+    def test_an_error_that_leaves_both_blocks(self):
+        for outer, inner in product((False, True), repeat=2):
+            bench = self.undone()
+            before = stand(bench)
+            with self.assertRaises(KeyError) as caught:
+                with bench.trial():
+                    bench.tell(('s',))
+                    if outer:
+                        bench.keep()
+                    with bench.trial():
+                        bench.undo()
+                        if inner:
+                            bench.keep()
+                        raise KeyError('away')
+            self.assertEqual(caught.exception.args, ('away',))
+            self.assertEqual(stand(bench), before)
+            self.refused(NoTrial, None, bench.keep)
+
+    def test_an_error_behind_a_kept_inner_block(self):
+        bench = self.undone()
+        before = stand(bench)
+        with self.assertRaises(Wanted):
+            with bench.trial():
+                with bench.trial():
+                    bench.tell(('a',))
+                    bench.keep()
+                self.same(bench.done, 3)
+                bench.keep()
+                bench.take('s')
+        self.assertEqual(stand(bench), before)
 
     def test_an_error_that_ends_at_an_outer_block(self):
         bench = self.made()
@@ -633,6 +743,37 @@ class Blocks(Case):
         with self.assertRaises(TypeError):
             bench.tried(lambda held: None, True)
         self.refused(NoTrial, None, bench.keep)
+
+    def test_tried_as_a_whole(self):
+        def plain(held):
+            held.undo()
+            held.tell(('s',))
+            return stand(held)
+
+        def keeping(held):
+            self.assertIsNone(held.keep())
+            return plain(held)
+        for keep in (True, False, 1, 'yes', None, 0, 1.0, (), [True]):
+            for look in (plain, keeping):
+                bench = self.undone()
+                before = stand(bench)
+                told = bench.tried(look, keep=keep)
+                self.assertNotEqual(told, before)
+                self.assertEqual(stand(bench), told if keep is True or look == keeping else before)
+                self.refused(NoTrial, None, bench.keep)
+
+    def test_tried_within_a_block(self):
+        for outer, inner in product((False, True), repeat=2):
+            bench = self.undone()
+            before = stand(bench)
+            with bench.trial():
+                if outer:
+                    bench.keep()
+                ahead = stand(bench)
+                told = bench.tried(lambda held: held.tell(('s',)) or stand(held), keep=inner)
+                self.assertEqual(stand(bench), told if inner else ahead)
+                last = stand(bench)
+            self.assertEqual(stand(bench), last if outer else before)
 
     def test_looks_that_raise(self):
         bench = self.made()

@@ -142,6 +142,42 @@ def is_literal(node):
     return True
 
 
+def is_end_row(row):
+    """Whether a row can stand in __exit__, which is held to fewer sorts of them than the language has there."""
+    if isinstance(row, ast.If):
+        return is_end_test(row.test) and all([is_end_row(part) for part in row.body + row.orelse])
+    if isinstance(row, ast.Return):
+        return row.value is None or isinstance(row.value, ast.Constant) and (row.value.value is None or row.value.value is False)
+    if isinstance(row, ast.Assign) and len(row.targets) == 1:
+        target, given = row.targets[0], row.value
+        if isinstance(target, ast.Name):
+            return is_part(given) and isinstance(given.value, ast.Name) and given.value.id == 'self'
+        return is_part(target) and (is_part(given) or isinstance(given, ast.Constant))
+    return isinstance(row, ast.Pass)
+
+
+def is_end_test(test):
+    """Whether a test asks only what is None: classes here have __eq__ and __len__, so nothing is asked alone or compared."""
+    if isinstance(test, ast.BoolOp):
+        return all([is_end_test(part) for part in test.values])
+    if isinstance(test, ast.UnaryOp):
+        return isinstance(test.op, ast.Not) and is_end_test(test.operand)
+    if not isinstance(test, ast.Compare) or len(test.ops) > 1 or not isinstance(test.ops[0], (ast.Is, ast.IsNot)):
+        return False
+    told = test.comparators[0]
+    known = is_part(test.left) or isinstance(test.left, ast.Name) and test.left.id not in ('value', 'trace')
+    return known and isinstance(told, ast.Constant) and told.value is None
+
+
+def is_part(node):
+    """Whether it is an attribute off a name, perhaps through others, of nothing that __exit__ is handed."""
+    while isinstance(node, ast.Attribute):
+        node = node.value
+        if isinstance(node, ast.Name):
+            return node.id not in ('kind', 'value', 'trace')
+    return False
+
+
 class Interface(unittest.TestCase):
     """What is listed is there, under its name, defined in its file."""
 
@@ -267,9 +303,28 @@ class Language(unittest.TestCase):
         ends = [node for _, tree, _ in trees() for node in functions(tree) if node.name == '__exit__']
         self.assertEqual(len(ends), 1)
         self.assertEqual([row.arg for row in ends[0].args.args], ['self', 'kind', 'value', 'trace'])
-        for node in ast.walk(ends[0]):
-            self.assertNotIsInstance(node, (ast.Call, ast.Subscript, ast.Return, ast.For, ast.While, ast.Raise))
-            self.assertFalse(isinstance(node, ast.Name) and node.id in ('value', 'trace'))
+        self.assertTrue(ast.get_docstring(ends[0]))
+        for row in ends[0].body[1:]:
+            self.assertTrue(is_end_row(row), ast.unparse(row))
+        given = [node.targets[0].id for node in ast.walk(ends[0])
+                 if isinstance(node, ast.Assign) and isinstance(node.targets[0], ast.Name)]
+        self.assertEqual(len(given), len(set(given)))
+
+    def test_which_rows_can_end_a_block(self):
+        right = ['pass', 'return', 'return None', 'return False', 'held = self.held', 'held.past = self.past', 'self.many = 0',
+                 'if kind is None:\n    pass', 'if kind is not None or self.kept is None:\n    held.past = self.past',
+                 'if not (self.kept is not None and kind is None):\n    pass\nelse:\n    self.kept = None']
+        wrong = ['if kind is not None or not self.is_kept:\n    pass', 'if self.is_kept:\n    pass', 'if kind:\n    pass',
+                 'if not kind:\n    pass', 'if self.kept == None:\n    pass', 'if self.kept is True:\n    pass', 'if self.many > 3:\n    pass',
+                 'if None is kind:\n    pass', 'if value is None:\n    pass', 'if trace is not None:\n    pass', 'if len(self.rows):\n    pass',
+                 'if self.past is self.future:\n    pass', 'if kind is None is None:\n    pass', 'if self.rows[0] is None:\n    pass',
+                 'if kind is None:\n    self.end()', 'if kind is None:\n    pass\nelse:\n    raise kind', 'return True', 'return 0', 'return kind', 'return self.kept',
+                 'self.past = value', 'self.past = kind', 'self.many = -1', 'self.past = self.rows[0]', 'self.past = held.now()', 'self.rows[0] = 1',
+                 'self.past, self.future = self.now', 'self.past = self.future = ()', 'held = other.held', 'held = self.one.other', 'held = 1',
+                 'self.end()', 'raise Kept', 'for row in self.rows:\n    pass', 'while kind is None:\n    pass', 'del self.past']
+        for rows, wanted in ((right, True), (wrong, False)):
+            for row in rows:
+                self.assertIs(is_end_row(ast.parse(row).body[0]), wanted, row)
 
     def test_names(self):
         for name, tree, _ in trees():
